@@ -1,0 +1,80 @@
+"""The section "The interface": names, arguments, and where they are defined."""
+
+import ast
+import inspect
+import unittest
+from pathlib import Path
+
+from meltback import errors, steps, tables
+
+PACKAGE = Path(__file__).resolve().parent.parent / "meltback"
+
+# For each module: its classes, the parameters they are made with, and what stands in their bodies.
+COMPARED = ["__le__", "__lt__", "__ge__", "__gt__", "__eq__"]
+TABLE = ["texts", "under", "mapped", "read", "__len__", "__getitem__", "__contains__", "__or__", "__and__", "__str__"]
+STEP = ["__eq__", "__str__"]
+CLASSES = [
+    (tables, "Table", ["columns", "rows=()"], TABLE + COMPARED),
+    (steps, "Step", None, STEP),
+    (steps, "Pick", ["columns"], STEP),
+    (steps, "Rename", ["old", "new"], STEP),
+    (steps, "Has", ["column"], STEP),
+    (steps, "Is", ["column", "text"], STEP),
+    (steps, "Put", ["column", "text"], STEP),
+    (steps, "Alike", ["column", "other"], STEP),
+    (steps, "Melt", ["columns", "name", "value"], STEP),
+    (steps, "Pivot", ["by", "name", "value", "heads"], STEP),
+    (steps, "Join", ["columns", "steps"], STEP),
+    (steps, "Stack", ["steps"], STEP),
+    (errors, "TableError", None, []),
+    (errors, "InvalidTable", ["word"], []),
+    (errors, "InvalidStep", ["word"], []),
+    (errors, "InvalidScript", ["at", "word"], []),
+    (errors, "InvalidKind", ["word"], []),
+    (errors, "InvalidText", ["at"], []),
+    (errors, "InvalidCommand", None, []),
+    (errors, "Mismatch", None, []),
+    (errors, "NoRow", ["at"], []),
+    (errors, "NoStep", ["at"], []),
+    (errors, "NoColumn", ["name"], []),
+]
+METHODS = [(tables.Table.under, ["name"]), (tables.Table.mapped, ["texts"]), (tables.Table.read, ["text"])]
+
+
+def parameters(function):
+    return [str(one) for name, one in inspect.signature(function).parameters.items() if name != "self"]
+
+
+class Interface(unittest.TestCase):
+    def test_classes_stand_in_their_files(self):
+        for module, name, passed, body in CLASSES:
+            self.assertEqual(getattr(module, name).__module__, module.__name__)
+            tree = ast.parse((PACKAGE / (module.__name__.split(".")[1] + ".py")).read_text())
+            self.assertIn(name, [node.name for node in tree.body if isinstance(node, ast.ClassDef)])
+
+    def test_parameters_of_classes(self):
+        for module, name, passed, body in CLASSES:
+            if passed is not None:
+                self.assertEqual(parameters(getattr(module, name)), passed, name)
+
+    def test_methods_stand_in_their_classes(self):
+        for module, name, passed, body in CLASSES:
+            for method in body:
+                self.assertIn(method, vars(getattr(module, name)), name)
+
+    def test_parameters_of_methods(self):
+        for method, passed in METHODS:
+            self.assertEqual(parameters(method), passed)
+
+    def test_class_methods_and_properties(self):
+        self.assertIsInstance(vars(tables.Table)["read"], classmethod)
+        self.assertIsInstance(vars(tables.Table)["texts"], property)
+
+    def test_the_package_file_is_a_docstring(self):
+        tree = ast.parse((PACKAGE / "__init__.py").read_text())
+        self.assertEqual(len(tree.body), 1)
+        self.assertIsNotNone(ast.get_docstring(tree))
+
+
+if __name__ == "__main__":
+    unittest.main()
