@@ -25,6 +25,19 @@ def cells_at(row, places):
     return tuple([row[at] for at in places])
 
 
+def places_of(names, columns):
+    """The numbers that these names have among the columns."""
+    return tuple([columns.index(name) for name in names])
+
+
+def choices(lists):
+    """All ways to choose one thing of each of the lists, as tuples."""
+    chosen = [()]
+    for things in lists:
+        chosen = [(*ahead, thing) for ahead in chosen for thing in things]
+    return chosen
+
+
 def with_places(rows):
     """Each row behind the places of its texts."""
     return [(places_told(row), row) for row in rows]

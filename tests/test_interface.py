@@ -5,7 +5,7 @@ import inspect
 import unittest
 from pathlib import Path
 
-from meltback import errors, steps, tables
+from meltback import errors, kinds, scripts, shapes, steps, tables
 
 PACKAGE = Path(__file__).resolve().parent.parent / "meltback"
 
@@ -13,6 +13,8 @@ PACKAGE = Path(__file__).resolve().parent.parent / "meltback"
 COMPARED = ["__le__", "__lt__", "__ge__", "__gt__", "__eq__"]
 TABLE = ["texts", "under", "mapped", "read", "__len__", "__getitem__", "__contains__", "__or__", "__and__", "__str__"]
 STEP = ["__eq__", "__str__"]
+SCRIPT = ["texts", "without", "upto", "read", "__call__", "__len__", "__getitem__", "__rshift__", "__eq__", "__str__"]
+KIND = ["follows", "read", "__contains__", "__and__", "__str__"]
 CLASSES = [
     (tables, "Table", ["columns", "rows=()"], TABLE + COMPARED),
     (steps, "Step", None, STEP),
@@ -26,6 +28,9 @@ CLASSES = [
     (steps, "Pivot", ["by", "name", "value", "heads"], STEP),
     (steps, "Join", ["columns", "steps"], STEP),
     (steps, "Stack", ["steps"], STEP),
+    (scripts, "Script", ["columns", "steps=()"], SCRIPT),
+    (kinds, "Kind", ["columns", "always=()", "rules=()"], KIND + COMPARED),
+    (shapes, "Shape", None, ["mapped"]),
     (errors, "TableError", None, []),
     (errors, "InvalidTable", ["word"], []),
     (errors, "InvalidStep", ["word"], []),
@@ -38,7 +43,17 @@ CLASSES = [
     (errors, "NoStep", ["at"], []),
     (errors, "NoColumn", ["name"], []),
 ]
-METHODS = [(tables.Table.under, ["name"]), (tables.Table.mapped, ["texts"]), (tables.Table.read, ["text"])]
+METHODS = [
+    (tables.Table.under, ["name"]), (tables.Table.mapped, ["texts"]), (tables.Table.read, ["text"]),
+    (scripts.Script.without, ["at"]), (scripts.Script.upto, ["at"]), (scripts.Script.read, ["columns", "text"]),
+    (scripts.Script.__call__, ["table"]), (kinds.Kind.follows, ["by", "column"]), (kinds.Kind.read, ["text"]),
+    (shapes.Shape.mapped, ["texts"]),
+]
+FUNCTIONS = [
+    (shapes, "shapes", ["script", "kind"]), (shapes, "tells", ["script", "table", "row"]), (shapes, "weight", ["script", "kind"]),
+]
+CLASS_METHODS = [tables.Table, scripts.Script, kinds.Kind]
+PROPERTIES = [tables.Table, scripts.Script]
 
 
 def parameters(function):
@@ -67,8 +82,21 @@ class Interface(unittest.TestCase):
             self.assertEqual(parameters(method), passed)
 
     def test_class_methods_and_properties(self):
-        self.assertIsInstance(vars(tables.Table)["read"], classmethod)
-        self.assertIsInstance(vars(tables.Table)["texts"], property)
+        for one in CLASS_METHODS:
+            self.assertIsInstance(vars(one)["read"], classmethod)
+        for one in PROPERTIES:
+            self.assertIsInstance(vars(one)["texts"], property)
+
+    def test_functions_stand_in_their_files(self):
+        for module, name, passed in FUNCTIONS:
+            self.assertEqual(getattr(module, name).__module__, module.__name__)
+            self.assertEqual(parameters(getattr(module, name)), passed)
+
+    def test_attributes_are_set_when_objects_are_made(self):
+        script, kind = scripts.Script(["a"], [steps.Has("a")]), kinds.Kind(["a"])
+        self.assertLessEqual({"columns", "steps", "ends"}, set(vars(script)))
+        self.assertLessEqual({"columns", "always", "rules"}, set(vars(kind)))
+        self.assertLessEqual({"table", "row"}, set(vars(shapes.shapes(script, kind)[0])))
 
     def test_the_package_file_is_a_docstring(self):
         tree = ast.parse((PACKAGE / "__init__.py").read_text())

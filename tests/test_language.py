@@ -126,6 +126,56 @@ class Forms(unittest.TestCase):
                 if isinstance(sign, (ast.Is, ast.IsNot)):
                     self.assertIsInstance(right, ast.Constant, (name, node.lineno))
 
+    def test_l23_iterated_at_once(self):
+        takers = ("list", "tuple", "dict", "sorted", "sum", "any", "all", "enumerate", "zip", "min", "max")
+        for name, tree in trees():
+            placed = [node.iter for node in ast.walk(tree) if isinstance(node, (ast.For, ast.comprehension))]
+            for node in ast.walk(tree):
+                if isinstance(node, ast.Call) and isinstance(node.func, ast.Name) and node.func.id in takers:
+                    placed += node.args[:1]
+            for node in ast.walk(tree):
+                if isinstance(node, ast.Call) and isinstance(node.func, ast.Name) and node.func.id in ("zip", "enumerate", "range", "reversed"):
+                    self.assertIn(node, placed, (name, node.lineno))
+                if isinstance(node, ast.Call) and isinstance(node.func, ast.Attribute) and node.func.attr in ("items", "keys", "values"):
+                    self.assertIn(node, placed, (name, node.lineno))
+
+    def test_l23_nothing_that_is_iterated_over_is_changed(self):
+        changing = ("append", "extend", "pop", "clear", "insert", "remove", "setdefault", "update")
+        for name, node in nodes(ast.For):
+            over = ast.unparse(node.iter)
+            for one in [within for row in node.body for within in ast.walk(row)]:
+                if isinstance(one, ast.Call) and isinstance(one.func, ast.Attribute) and one.func.attr in changing:
+                    self.assertNotEqual(ast.unparse(one.func.value), over, (name, node.lineno))
+
+    def test_l19_errors(self):
+        own = [node.name for node in ast.parse(TEXTS["errors.py"]).body if isinstance(node, ast.ClassDef)]
+        for name, node in nodes(ast.ExceptHandler):
+            self.assertIsInstance(node.type, ast.Name, (name, node.lineno))
+            self.assertIn(node.type.id, own + ["KeyError", "ZeroDivisionError"], (name, node.lineno))
+        for name, node in nodes(ast.Raise):
+            self.assertIsInstance(node.exc, ast.Call, (name, node.lineno))
+            self.assertIn(node.exc.func.id, own + ["TypeError"], (name, node.lineno))
+
+    def test_l5_an_index_needs_iter_and_not_implemented_is_returned(self):
+        for name, node in nodes(ast.ClassDef):
+            methods = [method.name for method in node.body if isinstance(method, ast.FunctionDef)]
+            self.assertTrue("__getitem__" not in methods or "__iter__" in methods, node.name)
+        for name, tree in trees():
+            returned = [node.value for node in ast.walk(tree) if isinstance(node, ast.Return)]
+            for node in ast.walk(tree):
+                if isinstance(node, ast.Name) and node.id == "NotImplemented":
+                    self.assertIn(node, returned, (name, node.lineno))
+
+    def test_l16_no_two_files_import_from_each_other(self):
+        above = {}
+        for name, node in nodes(ast.ImportFrom):
+            above.setdefault(name, set()).add(node.module.split(".")[1] + ".py")
+        left = dict.fromkeys(TEXTS)
+        while left:
+            free = [name for name in left if not above.get(name, set()) & set(left)]
+            self.assertNotEqual(free, [], list(left))
+            left = {name: None for name in left if name not in free}
+
     def test_l24_sets_stand_where_they_may(self):
         for name, tree in trees():
             placed = []

@@ -1,10 +1,14 @@
 """Any values, to be passed where the document asks for nothing better."""
 
 from meltback.errors import InvalidTable, Mismatch
+from meltback.kinds import Kind
+from meltback.scripts import Script
+from meltback.shapes import shapes
 from meltback.steps import Has, Join, Pick
 from meltback.tables import Table
 
 OBJECTS = [Table(["a"]), Table(["a", "b"], [("x", None)]), Has("a"), Join((), [Pick(["a"])])]
+OBJECTS += [Script(["a"]), Script(["a"], [Has("a")]), Kind(["a"]), shapes(Script(["a"]), Kind(["a"]))[0]]
 NO_STRINGS = [None, True, False, 0, 1, -3, 10**30, b"a", [], (), ["a"], ("a",), [["a"]], (("x",), [None]), [[[[[["a"]]]]]]]
 NO_SEQUENCES = [None, True, False, 0, 1, "", "a", "ab", "a b", b"a", InvalidTable("row"), Mismatch(), *OBJECTS]
 
