@@ -25,6 +25,11 @@ def cells_at(row, places):
     return tuple([row[at] for at in places])
 
 
+def cells_of(rows):
+    """The cells of rows, one row behind another."""
+    return tuple([cell for row in rows for cell in row])
+
+
 def places_of(names, columns):
     """The numbers that these names have among the columns."""
     return tuple([columns.index(name) for name in names])

@@ -41,6 +41,11 @@ def free_texts(many, told):
     return [text for text in texts if text not in told][:many]
 
 
+def unknown_texts(cells, told):
+    """The ascending list of the texts among the cells that are not told."""
+    return sorted(set([cell for cell in cells if cell is not None and cell not in told]))
+
+
 def shape_of(sketch, columns, told):
     """The shape of a sketch: texts that are not told take the place of the numbers."""
     unknowns = unknowns_in(sketch)
@@ -49,15 +54,33 @@ def shape_of(sketch, columns, told):
     return Shape(table, row_mapped(sketch.row, texts), told)
 
 
+def rules_placed(kind):
+    """The rules of a kind, with numbers in the place of the columns."""
+    return [(places_of(by, kind.columns), kind.columns.index(column)) for by, column in kind.rules]
+
+
+def first_of(kind):
+    """The sketches of nothing done."""
+    return first_sketches(kind.columns, columns_always_there(kind))
+
+
+def sketches_for(script, kind):
+    """The sketches of a script for a kind, with its rules kept."""
+    need_columns(script, kind)
+    columns, sketches = sketches_of(script.steps, kind.columns, first_of(kind))
+    rules = rules_placed(kind)
+    return [one for sketch in sketches for one in with_rules(sketch, rules)]
+
+
+def shapes_apart(script, kind, texts):
+    """The shapes of a script for a kind, none of whose unknowns is one of these texts."""
+    told = (*script.texts, *texts)
+    return [shape_of(sketch, kind.columns, told) for sketch in sketches_for(script, kind)]
+
+
 def shapes(script, kind):
     """The shapes of a script for a kind: one leads to each row that the script makes of any table."""
-    need_columns(script, kind)
-    first = first_sketches(kind.columns, columns_always_there(kind))
-    columns, sketches = sketches_of(script.steps, kind.columns, first)
-    rules = [(places_of(by, kind.columns), kind.columns.index(column)) for by, column in kind.rules]
-    found = [one for sketch in sketches for one in with_rules(sketch, rules)]
-    told = script.texts
-    return tuple([shape_of(sketch, kind.columns, told) for sketch in found])
+    return tuple(shapes_apart(script, kind, ()))
 
 
 def tells(script, table, row):

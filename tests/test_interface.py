@@ -5,7 +5,7 @@ import inspect
 import unittest
 from pathlib import Path
 
-from meltback import errors, kinds, scripts, shapes, steps, tables
+from meltback import deciding, desk, errors, kinds, scripts, shapes, steps, tables, ways
 
 PACKAGE = Path(__file__).resolve().parent.parent / "meltback"
 
@@ -31,6 +31,7 @@ CLASSES = [
     (scripts, "Script", ["columns", "steps=()"], SCRIPT),
     (kinds, "Kind", ["columns", "always=()", "rules=()"], KIND + COMPARED),
     (shapes, "Shape", None, ["mapped"]),
+    (desk, "Desk", [], ["say", "several", "trial", "tried", "__len__"]),
     (errors, "TableError", None, []),
     (errors, "InvalidTable", ["word"], []),
     (errors, "InvalidStep", ["word"], []),
@@ -48,9 +49,15 @@ METHODS = [
     (scripts.Script.without, ["at"]), (scripts.Script.upto, ["at"]), (scripts.Script.read, ["columns", "text"]),
     (scripts.Script.__call__, ["table"]), (kinds.Kind.follows, ["by", "column"]), (kinds.Kind.read, ["text"]),
     (shapes.Shape.mapped, ["texts"]),
+    (desk.Desk.say, ["command"]), (desk.Desk.several, ["commands"]), (desk.Desk.trial, []), (desk.Desk.tried, ["work"]),
 ]
 FUNCTIONS = [
     (shapes, "shapes", ["script", "kind"]), (shapes, "tells", ["script", "table", "row"]), (shapes, "weight", ["script", "kind"]),
+    (deciding, "within", ["p", "q", "kind"]), (deciding, "same", ["p", "q", "kind"]), (deciding, "lost", ["p", "q", "kind"]),
+    (deciding, "needless", ["p", "kind"]), (deciding, "steady", ["p", "kind"]), (deciding, "commuting", ["p", "q", "kind"]),
+    (deciding, "doubled", ["p", "at", "kind"]), (deciding, "never", ["p", "kind"]),
+    (ways, "way", ["p", "q", "kind"]), (ways, "no_way", ["p", "q", "kind"]), (ways, "no_way_holds", ["p", "q", "kind", "value"]),
+    (ways, "kept", ["p", "kind"]), (ways, "takes_back", ["p", "r", "kind"]),
 ]
 CLASS_METHODS = [tables.Table, scripts.Script, kinds.Kind]
 PROPERTIES = [tables.Table, scripts.Script]
@@ -90,6 +97,8 @@ class Interface(unittest.TestCase):
     def test_functions_stand_in_their_files(self):
         for module, name, passed in FUNCTIONS:
             self.assertEqual(getattr(module, name).__module__, module.__name__)
+            tree = ast.parse((PACKAGE / (module.__name__.split(".")[1] + ".py")).read_text())
+            self.assertIn(name, [node.name for node in tree.body if isinstance(node, ast.FunctionDef)])
             self.assertEqual(parameters(getattr(module, name)), passed)
 
     def test_attributes_are_set_when_objects_are_made(self):
@@ -97,6 +106,7 @@ class Interface(unittest.TestCase):
         self.assertLessEqual({"columns", "steps", "ends"}, set(vars(script)))
         self.assertLessEqual({"columns", "always", "rules"}, set(vars(kind)))
         self.assertLessEqual({"table", "row"}, set(vars(shapes.shapes(script, kind)[0])))
+        self.assertLessEqual({"table", "kind"}, set(vars(desk.Desk())))
 
     def test_the_package_file_is_a_docstring(self):
         tree = ast.parse((PACKAGE / "__init__.py").read_text())
