@@ -22,14 +22,12 @@ def free_names(many, taken):
     return [name for name in names if name not in taken][:many]
 
 
-def nothing(names):
-    """Steps that make a table of these new columns, never with a row."""
-    return [Put(names[0], MARK), Is(names[0], OTHER), *[Put(name, MARK) for name in names[1:]], Pick(names)]
-
-
 def lacking(names):
     """Steps that give each row these new columns, with nothing in them."""
-    return [Join((), nothing(names))] if names else []
+    if not names:
+        return []
+    # The join's table never has a row, so all rows lack what they would get.
+    return [Join((), [*[Put(name, MARK) for name in names], Is(names[0], OTHER), Pick(names)])]
 
 
 def doubling(name, new):
@@ -122,18 +120,15 @@ def steps_for(case, columns, told, names, its_names):
 
 
 def steps_for_all(cases, columns, told, names, its_names):
-    """The steps that do so for several cases."""
-    if not cases:
-        return nothing(names)
+    """The steps that do so for any number of cases."""
     if len(cases) == 1:
         return steps_for(cases[0], columns, told, names, its_names)
-    # The rows met stay beside the ones told, in other columns, and a mark parts them, until all cases are done.
-    mark = its_names[0]
-    steps = [Put(mark, MARK), *lacking(names)]
+    # Until all cases are done, the rows that are told stand below those that are met, and lack their columns.
+    steps = lacking(names)
     for case in cases:
-        made = steps_for(case, columns, told, names, its_names[1:])
-        steps.append(Stack([Is(mark, MARK), Pick(columns), *made, Put(mark, OTHER), *lacking(columns)]))
-    return [*steps, Is(mark, OTHER), Pick(names)]
+        made = steps_for(case, columns, told, names, its_names)
+        steps.append(Stack([Pick(columns), *made, *lacking(columns)]))
+    return [*steps, Pick(names)]
 
 
 def built(cases, columns, ends, told):
@@ -143,6 +138,6 @@ def built(cases, columns, ends, told):
     """
     # A mark for each row, and at most one unknown for each of its cells.
     most = max([len(rows) for rows, row in cases], default=0) * (1 + len(columns))
-    names = free_names(len(ends) + 1 + most, columns + ends)
+    names = free_names(len(ends) + most, columns + ends)
     steps = steps_for_all(cases, columns, told, names[:len(ends)], names[len(ends):])
     return Script(columns, [*steps, *[Rename(name, end) for name, end in zip(names, ends)]])

@@ -90,7 +90,7 @@ def has_unlike_values(sketch):
 def doubled(p, at, kind):
     """A table of the kind with the fewest rows on which a pivot meets two values for one head, or None."""
     need_columns(p, kind)
-    if not 0 <= at < len(p) or not isinstance(p[at], Pivot):
+    if not isinstance(p[at], Pivot):
         raise NoStep(at)
     rules = rules_placed(kind)
     columns, sketches = sketches_of(p.steps[:at], kind.columns, first_of(kind))

@@ -153,6 +153,13 @@ class Desk:
         self.scripts = {}
         self.past = ()
 
+    def become(self, other):
+        """Take over all that another desk keeps."""
+        self.kind = other.kind
+        self.table = other.table
+        self.scripts = other.scripts
+        self.past = other.past
+
     def change(self, kind, table, scripts):
         """Take these in the place of what is here, which can be taken back."""
         self.past = (*self.past, (self.kind, self.table, self.scripts))
@@ -177,13 +184,11 @@ class Desk:
 
     def several(self, commands):
         """Do commands, and return the tuple of their results; if one raises an error, none of them counts."""
-        kind, table, scripts, past = self.kind, self.table, self.scripts, self.past
-        results = None
-        try:
-            results = tuple([self.say(command) for command in commands])
-        finally:
-            if results is None:
-                self.kind, self.table, self.scripts, self.past = kind, table, scripts, past
+        # Another desk does them first, so an error leaves this one as it is.
+        other = Desk()
+        other.become(self)
+        results = tuple([other.say(command) for command in commands])
+        self.become(other)
         return results
 
     def trial(self):

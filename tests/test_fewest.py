@@ -179,6 +179,13 @@ class Doubled(unittest.TestCase):
         self.check(p, 2, Kind(["a", "b"], ["a", "b"], [((), "a"), ((), "b")]), 1)
         self.assertIsNone(doubled(script_of("a b", "melt a as n v ; put m x ; pivot b by m v to x"), 2, kind_of("a b ; rule b : a")))
 
+    def test_by_two_columns(self):
+        p = script_of("a b n v", "pivot a b by n v to h")
+        self.check(p, 0, kind_of("a b n v ; always a b n v"), 2, ["h", "x"])
+        self.assertIsNone(doubled(p, 0, kind_of("a b n v ; rule a b n : v")))
+        self.assertIsNone(doubled(p, 0, kind_of("a b n v ; rule b : v")))
+        self.check(p, 0, kind_of("a b n v ; always a b n v ; rule v : a ; rule v : b"), 2, ["h", "x"])
+
     def test_told_values(self):
         p = script_of("a b", "stack ; pick b ; put a x ; end ; stack ; pick b ; put a y ; end ; put m x ; pivot b by m a to x")
         self.check(p, 3, Kind(["a", "b"]), 1, ["x", "y"])

@@ -211,8 +211,14 @@ class Ways(Asking):
                 for call in [lambda: way(*pair, kind), lambda: no_way(*pair, kind), lambda: no_way_holds(*pair, kind, None)]:
                     with self.assertRaises(Mismatch):
                         call()
+        never = script_of("a b", "is a x ; is a y")
+        for other in [script_of("b a"), script_of("a"), script_of("b a", "is a x ; is a y")]:
+            for pair in [(never, other), (other, never)]:
+                for call in [lambda: way(*pair, kind), lambda: no_way(*pair, kind), lambda: no_way_holds(*pair, kind, None)]:
+                    with self.assertRaises(Mismatch):
+                        call()
         for columns in [["b", "a"], ["a"], ["a", "b", "c"]]:
-            for one in [p, script_of("a b"), script_of("a b", "is a x ; is a y")]:
+            for one in [p, script_of("a b"), never]:
                 for call in [lambda: way(one, p, Kind(columns)), lambda: no_way(one, one, Kind(columns)), lambda: no_way_holds(p, one, Kind(columns), ())]:
                     with self.assertRaises(Mismatch):
                         call()
@@ -223,6 +229,28 @@ class Ways(Asking):
         self.assertTrue(no_way_holds(value=no_way(q=q, kind=kind, p=p), kind=kind, q=q, p=p))
         self.assertEqual(kept(kind=kind, p=p), (("a",),))
         self.assertFalse(takes_back(kind=kind, r=script_of("a", "put b x"), p=p))
+
+
+class Short(unittest.TestCase):
+    """Any way is right; these are as short as one would write them, but for the names of columns."""
+
+    def check(self, p, q, kind, text):
+        self.assertEqual(str(way(p, q, kind)).replace("\n", " ; "), text)
+
+    def test_nothing_is_done(self):
+        self.check(script_of("a b", "has a"), script_of("a b", "has a ; stack ; end"), Kind(["a", "b"]), "")
+
+    def test_nothing_was_done(self):
+        self.check(script_of("a b"), script_of("a b", "pick b ; has b"), Kind(["a", "b"]), "pick b ; has b")
+
+    def test_rows_that_are_not_needed(self):
+        kind = kind_of("id may june ; always id may june")
+        short = "has id ; is n may ; has v ; rename id waaa ; rename v waab ; pick waaa waab ; rename waaa id ; rename waab may"
+        self.check(MELT, script_of(COLUMNS, "pick id may"), kind, short)
+
+    def test_cases_that_are_not_needed(self):
+        short = "has a ; is c x ; rename a waaa ; pick waaa ; rename waaa a"
+        self.check(script_of("a b", "put c x"), script_of("a b", "pick a"), Kind(["a", "b"], ["a"]), short)
 
 
 class ByChance(Asking):
