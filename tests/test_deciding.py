@@ -42,6 +42,8 @@ def with_other_unknowns(shape, told):
 
 
 class Within(unittest.TestCase):
+    """[27], and whether [28] finds anything."""
+
     def check(self, p, q, kind, there, back):
         self.assertEqual((within(p, q, kind), within(q, p, kind)), (there, back))
         self.assertEqual(same(p, q, kind), there and back)
@@ -152,7 +154,7 @@ class Within(unittest.TestCase):
 
 
 class Held(unittest.TestCase):
-    """The answers, held against the steps done on tables."""
+    """[4], [27], [28], [29], [31]: the answers, held against the steps done on tables."""
 
     def test_within_and_same_on_tables(self):
         answers = {True: 0, False: 0}
@@ -219,6 +221,8 @@ class Held(unittest.TestCase):
 
 
 class Needless(unittest.TestCase):
+    """[29]."""
+
     def test_steps_that_others_bring(self):
         kind = Kind(["a", "b"])
         self.assertEqual(needless(script_of("a b", "has a ; has a"), kind), (0, 1))
@@ -250,6 +254,8 @@ class Needless(unittest.TestCase):
 
 
 class SteadyAndCommuting(unittest.TestCase):
+    """[29]."""
+
     def test_steady(self):
         kind = Kind(["a", "b"])
         for text in ["", "has a", "is a x", "alike a b", "stack ; rename a c ; rename b a ; rename c b ; end", "is a x ; is a y"]:
@@ -292,6 +298,8 @@ class SteadyAndCommuting(unittest.TestCase):
 
 
 class Never(unittest.TestCase):
+    """[31]."""
+
     def test_never(self):
         kind = Kind(["a", "b"])
         for text in ["is a x ; is a y", "put c x ; is c y", "is a x ; is b y ; alike a b", "pivot by a b to h ; put c x ; alike c h ; is h y", "is a x ; melt a b as n v ; is n a ; is v y"]:
@@ -316,6 +324,8 @@ class Never(unittest.TestCase):
 
 
 class WrongColumns(unittest.TestCase):
+    """[27], [28]."""
+
     def test_two_scripts(self):
         kind = Kind(["a", "b"])
         p = script_of("a b")

@@ -31,6 +31,8 @@ def filled():
 
 
 class Commands(unittest.TestCase):
+    """[36]."""
+
     def say(self, desk, command, result):
         answer = desk.say(command)
         self.assertEqual(answer, result, command)
@@ -167,6 +169,8 @@ class Commands(unittest.TestCase):
 
 
 class Undo(unittest.TestCase):
+    """[36], and `len` of [37]."""
+
     def test_to_the_beginning_and_beyond(self):
         desk = Desk()
         commands = ["row x", "row -", "keep p", "keep p is a y", "kind a b ; always a", "keep q has b", "row x y", "row x y", "kind c", "keep p is c x", "row z"]
@@ -218,6 +222,8 @@ class Undo(unittest.TestCase):
 
 
 class Wrong(unittest.TestCase):
+    """[37]: what is no command, and the errors of what stands in commands."""
+
     def check(self, command, error=InvalidCommand, **attributes):
         desk, said = filled()
         before = state(desk)
@@ -284,6 +290,8 @@ class Wrong(unittest.TestCase):
 
 
 class Separators(unittest.TestCase):
+    """[36]: what stands for a newline."""
+
     def test_from_left_to_right(self):
         """The blank behind the first one is its own, so the second one has none ahead of it."""
         desk = Desk()

@@ -32,6 +32,8 @@ def meets_twice(script, at, table):
 
 
 class Lost(unittest.TestCase):
+    """[28]."""
+
     def check(self, p, q, kind, many, texts=("x", "y", "z")):
         """The rows are so many, and no smaller table over these texts will do."""
         found = lost(p, q, kind)
@@ -147,6 +149,8 @@ class Lost(unittest.TestCase):
 
 
 class Doubled(unittest.TestCase):
+    """[30]."""
+
     def check(self, p, at, kind, many, texts=("h", "k", "x", "y")):
         """The rows are so many, and no smaller table over these texts will do."""
         table = doubled(p, at, kind)

@@ -21,6 +21,8 @@ NINE = "pick a c b ; join ; rename a d ; rename b e ; rename c f ; join ; rename
 
 
 class Limits(unittest.TestCase):
+    """[3], [4]."""
+
     def setUp(self):
         self.begun = time.monotonic()
 

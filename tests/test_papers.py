@@ -21,6 +21,8 @@ ROW = ("1", "m1", "j1")
 
 
 class Papers(unittest.TestCase):
+    """[35]."""
+
     def holds(self, value, p=MELT, q=ALL, kind=LOOSE):
         answer = no_way_holds(p, q, kind, value)
         self.assertIn(answer, [True, False])
@@ -168,6 +170,8 @@ def changed(chosen, paper):
 
 
 class ByChance(unittest.TestCase):
+    """[4], [35]: what is changed in a paper, and papers where there is a way."""
+
     def cases(self, seed, many):
         chosen = random.Random(seed)
         while many:

@@ -14,6 +14,8 @@ class Boom(Exception):
 
 
 class Trials(unittest.TestCase):
+    """[37]."""
+
     def test_a_block(self):
         desk, said = filled()
         before = state(desk)
@@ -113,6 +115,8 @@ class Trials(unittest.TestCase):
 
 
 class Tried(unittest.TestCase):
+    """[37]."""
+
     def test_what_the_work_returns(self):
         desk, said = filled()
         before = state(desk)
@@ -152,6 +156,8 @@ class Tried(unittest.TestCase):
 
 
 class Several(unittest.TestCase):
+    """[37]."""
+
     def test_results(self):
         desk = Desk()
         self.assertEqual(desk.several(["kind a b", "row x y", "keep p pick b", "show p", "fits", "undo", "undo"]), ("2", "1", "1", "b ; y", "yes", "undone", "undone"))

@@ -60,6 +60,8 @@ class Asking(unittest.TestCase):
 
 
 class Ways(Asking):
+    """[32], [33]: a way from one script to another one, or a paper."""
+
     def check(self, p, q, kind, is_there=True):
         chosen = random.Random(8)
         if is_there:
@@ -254,6 +256,8 @@ class Short(unittest.TestCase):
 
 
 class ByChance(Asking):
+    """[4], [32], [33], [35] for scripts and kinds by chance."""
+
     def check_some(self, seed, many):
         found = {True: 0, False: 0}
         for chosen, p, q, kind in chosen_cases(seed, many):
@@ -296,6 +300,8 @@ class ByChance(Asking):
 
 
 class Kept(Asking):
+    """[34]."""
+
     def check(self, p, kind, sets):
         self.assertEqual(kept(p, kind), sets)
         columns = kind.columns
@@ -348,6 +354,8 @@ class Kept(Asking):
 
 
 class TakesBack(unittest.TestCase):
+    """[34]."""
+
     def test_a_melt(self):
         self.assertIs(takes_back(MELT, BACK, kind_of(RULES)), True)
         self.assertIs(takes_back(MELT, BACK, kind_of("id may june ; always id may june")), False)
